@@ -285,8 +285,9 @@ func TestOdd(t *testing.T) {
 	}
 }
 
-// P9.2: the chapter's example, published check values of TDES, and those of
-// published AES keys, which another program told.
+// P9.2: the chapter's example and known check values of TDES keys of 16 bytes; of
+// the other keys OpenSSL told them, of the TDES ones and by its CMAC of the AES
+// ones.
 func TestKnownValues(t *testing.T) {
 	for _, x := range []struct {
 		kind      int
