@@ -325,8 +325,9 @@ func mustWrap(t *testing.T, with []byte, h api.Head, key, fill []byte) string {
 	return s
 }
 
-// P11.2, P11.3: key blocks as they were published with the standard that these
-// are of.
+// P11.2, P11.3: two key blocks from examples of ASC X9 TR 31, the form that these
+// are of. They are written from memory, with the fill that deciphering showed; that
+// their codes fit speaks for them.
 func TestKnownBlocks(t *testing.T) {
 	for _, x := range []struct{ with, fill, s string }{
 		{"88e1ab2a2e3dd38c1fa039a536500cc8a87ab9d62dc92c01058fa79f44657de6", "1c2965473ce206bb855b01533782", "D0112P0AE00E0000B82679114F470F540165EDFBF7E250FCEA43F810D215F8D207E2E417C07156A27E8E31DA05F7425509593D03A457DC34"},
