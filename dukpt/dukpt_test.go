@@ -414,9 +414,9 @@ func TestStepFromFirst(t *testing.T) {
 }
 
 // P12.2: the chapter's example, and keys of later counters of the same base key and
-// number, as X9.24-1 publishes them. Those behind the counter 3 are written down
-// from memory: that they fit in all their bytes says that they were remembered
-// right.
+// number, as X9.24-1 publishes them: of some the key itself, of some its variant for
+// PINs. Those behind the counter 3 are written down from memory: that
+// they fit in all their bytes says that they were remembered right.
 func TestDeriveOfPublished(t *testing.T) {
 	ksn := numberOf(t, "ffff9876543210e00000")
 	first, err := dukpt.First(unhex(t, "0123456789abcdeffedcba9876543210"), ksn)
@@ -424,23 +424,26 @@ func TestDeriveOfPublished(t *testing.T) {
 		t.Fatal(err)
 	}
 	for _, c := range []struct {
-		counter int
-		want    string
+		counter      int
+		key, forPins string
 	}{
-		{0, "6ac292faa1315b4d858ab3a3d7d5933a"},
-		{1, "042666b49184cfa368de9628d0397bc9"},
-		{2, "c46551cef9fd24b0aa9ad834130d3bc7"},
-		{3, "0df3d9422aca56e547676d07ad6badfa"},
-		{4, "279c0f6aeed0be652b2c733e1383ae91"},
-		{5, "5f8dc6d2c845c125508ddc048093b83f"},
-		{7, "0c8f780b7c8b49d0ae84a9eb2a6ce660"},
-		{8, "27f66d5244ff62e1aa6f6120edeb4280"},
-		{10, "6cf2500a22507c7cc776ceadc1e33014"},
-		{0xff800, "f9cdfebf4f5b1d9eb3ec12454527e176"},
+		{counter: 0, key: "6ac292faa1315b4d858ab3a3d7d5933a"},
+		{counter: 1, key: "042666b49184cfa368de9628d0397bc9", forPins: "042666b49184cf5c68de9628d0397b36"},
+		{counter: 2, key: "c46551cef9fd24b0aa9ad834130d3bc7"},
+		{counter: 3, key: "0df3d9422aca56e547676d07ad6badfa"},
+		{counter: 4, key: "279c0f6aeed0be652b2c733e1383ae91"},
+		{counter: 5, key: "5f8dc6d2c845c125508ddc048093b83f"},
+		{counter: 7, forPins: "0c8f780b7c8b492fae84a9eb2a6ce69f"},
+		{counter: 10, key: "6cf2500a22507c7cc776ceadc1e33014"},
+		{counter: 0xff800, forPins: "f9cdfebf4f5b1d61b3ec12454527e189"},
 	} {
-		got, err := dukpt.Derive(first, dukpt.At(ksn, c.counter))
-		if err != nil || got != keyOf(t, c.want) {
-			t.Errorf("%x: the key is %x, %v, want %s", c.counter, got, err, c.want)
+		key, err := dukpt.Derive(first, dukpt.At(ksn, c.counter))
+		if err != nil || c.key != "" && key != keyOf(t, c.key) {
+			t.Errorf("%x: the key is %x, %v, want %s", c.counter, key, err, c.key)
+		}
+		forPins, err := dukpt.Variant(key, 1)
+		if err != nil || c.forPins != "" && forPins != keyOf(t, c.forPins) {
+			t.Errorf("%x: the variant for PINs is %x, %v, want %s", c.counter, forPins, err, c.forPins)
 		}
 	}
 }
