@@ -415,8 +415,8 @@ func TestStepFromFirst(t *testing.T) {
 
 // P12.2: the chapter's example, and keys of later counters of the same base key and
 // number, as X9.24-1 publishes them: of some the key itself, of some its variant for
-// PINs. Those behind the counter 3 are written down from memory: that
-// they fit in all their bytes says that they were remembered right.
+// PINs. Those behind the counter 3 are written down from memory: that they fit in all
+// their bytes says that they were remembered right.
 func TestDeriveOfPublished(t *testing.T) {
 	ksn := numberOf(t, "ffff9876543210e00000")
 	first, err := dukpt.First(unhex(t, "0123456789abcdeffedcba9876543210"), ksn)
